@@ -1,0 +1,1 @@
+"""Passring: stations on a ring that pass one token."""
