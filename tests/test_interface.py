@@ -1,4 +1,4 @@
-"""The interface: names, their files and their arguments, as far as they have landed."""
+"""The interface: names, their files and their arguments."""
 
 import importlib
 import inspect
@@ -7,6 +7,8 @@ import unittest
 CLASSES = {
     "passring.errors": ["RingError", "NoRing", "NoStation", "NoMessage", "IsOff", "IsOn", "NoToken"],
     "passring.stations": ["Station"],
+    "passring.tokens": ["Token"],
+    "passring.rings": ["Ring"],
 }
 FUNCTIONS = {
     "passring.rules": {
@@ -14,6 +16,9 @@ FUNCTIONS = {
         "next_on": ["on", "at"],
         "limit": ["many", "station"],
         "bound": ["many"],
+    },
+    "passring.desk": {
+        "played": ["text"],
     },
 }
 METHODS = {
@@ -24,6 +29,29 @@ METHODS = {
         "need": [],
         "tell": [],
         "send": [],
+    },
+    ("passring.tokens", "Token"): {
+        "__init__": ["number", "maker", "at"],
+        "stamp": [],
+        "hear": ["need", "station"],
+        "begin_round": [],
+    },
+    ("passring.rings", "Ring"): {
+        "__init__": ["many"],
+        "put": ["station", "rank", "mark"],
+        "step": [],
+        "lose": ["place"],
+        "make": ["station"],
+        "switch_off": ["station"],
+        "switch_on": ["station"],
+        "time": [],
+        "many_on": [],
+        "tokens": [],
+        "rows": [],
+        "messages": ["station"],
+        "need": ["station"],
+        "knows": ["station"],
+        "is_on": ["station"],
     },
 }
 
